@@ -61,6 +61,15 @@ def levels_of(equations, ways):
     return levels
 
 
+def names_of(ways):
+    """A variable for each equation; equations that lead to one another have different ones."""
+    names = {}
+    for members in components(ways):
+        for name, at in enumerate(sorted(members)):
+            names[at] = name
+    return names
+
+
 def closed_statement(equations):
     """A closed statement that is true, in every world, where variable 0 of the equations is."""
     return Writer(equations).statement()
@@ -69,8 +78,8 @@ def closed_statement(equations):
 class Writer:
     """Writes equations into each other, until each variable stands within a binder of its own.
 
-    A task (index, bound) is an equation to be written within binders of others: bound has pairs
-    (index, variable) of those that it can lead to. A variable may refer to a binder around it
+    A task (index, bound) is an equation to be written within binders of others: bound is the
+    ascending tuple of those that it can lead to. A variable may refer to a binder around it
     only if no equation of a lesser level has been opened between them. Otherwise a loop through
     both would count for the outer binder, though the lesser level decides it.
     """
@@ -79,6 +88,7 @@ class Writer:
         self.equations = equations
         self.ways = {at: variables_in(body) for at, (_, body) in enumerate(equations)}
         self.levels = levels_of(equations, self.ways)
+        self.names = names_of(self.ways)
         self.reached = {at: reached_from(at, self.ways) for at in self.ways}
         self.done = {}
 
@@ -98,41 +108,38 @@ class Writer:
         return statement
 
     def _opened(self, task):
-        """What is bound within the binder of a task: the equations with their variables."""
+        """The list of the equations that are bound within the binder of a task."""
         index, bound = task
         level = self.levels[index]
-        opened = {at: name for at, name in bound if self.levels[at] <= level}
-        opened[index] = least_missing(list(opened.values()))
-        return opened
+        return sorted([at for at in bound if self.levels[at] <= level] + [index])
 
     def _inner_task(self, index, opened):
         """The task for an equation that is not bound where it is needed."""
         reached = self.reached[index]
-        return index, tuple(sorted([(at, opened[at]) for at in opened if at in reached]))
+        return index, tuple([at for at in opened if at in reached])
 
     def _needed(self, task):
         opened = self._opened(task)
         return [self._inner_task(at, opened) for at in self.ways[task[0]] if at not in opened]
 
     def _written(self, task):
-        """The statement for a task, and the variables that are free in it."""
+        """The statement for a task, and those of the equations bound around it that it mentions."""
         opened = self._opened(task)
         replacements = {}
-        free = {}
+        mentioned = {}
         for at in self.ways[task[0]]:
+            others = (at,)
             if at in opened:
-                replacements[at] = ("var", opened[at])
-                free[opened[at]] = True
+                replacements[at] = ("var", self.names[at])
             else:
-                replacements[at], names = self.done[self._inner_task(at, opened)]
-                for name in names:
-                    free[name] = True
+                replacements[at], others = self.done[self._inner_task(at, opened)]
+            for other in others:
+                mentioned[other] = True
         kind, body = self.equations[task[0]]
         statement = with_replaced(body, replacements)
-        own = opened[task[0]]
-        if own in free:
-            statement = (kind, own, statement)
-        return statement, tuple([name for name in free if name != own])
+        if task[0] in mentioned:
+            statement = (kind, self.names[task[0]], statement)
+        return statement, tuple([at for at in mentioned if at != task[0]])
 
 
 def reached_from(start, ways):
@@ -142,11 +149,3 @@ def reached_from(start, ways):
         if end not in reached:
             flood(end, ways, reached)
     return reached
-
-
-def least_missing(numbers):
-    """The least number from 0 on that is not in a list."""
-    least = 0
-    while least in numbers:
-        least += 1
-    return least

@@ -1,5 +1,6 @@
 """Guarded statements: each way from a binder to its variable goes along a step."""
 
+from fixworlds.components import flood, turned
 from fixworlds.equations import closed_statement, equations_of
 from fixworlds.parts import JOINS, STEPPERS, binder_places, nearest_around, parts_of
 from fixworlds.statements import ensure_closed
@@ -32,13 +33,16 @@ def guarded_equations(equations):
     is written into its place, and then the equation's own variable is replaced.
     """
     bodies = [body for _, body in equations]
+    leads = [leading(body) for body in bodies]
     for at in reversed(range(len(equations))):
-        replacements = {other: bodies[other] for other in leading_back(bodies, at)}
+        replacements = {other: bodies[other] for other in leading_back(leads, at)}
         replacements[at] = UNGUARDED[equations[at][0]]
-        while any([other in replacements for other in leading(bodies[at])]):
+        while any([other in replacements for other in leads[at]]):
             bodies[at] = rewritten(bodies[at], replacements, {})
+            leads[at] = leading(bodies[at])
         twins = outermost_twins(equations, at)
         bodies[at] = rewritten(bodies[at], twins, twins)
+        leads[at] = leading(bodies[at])
     return [(kind, body) for (kind, _), body in zip(equations, bodies)]
 
 
@@ -57,16 +61,10 @@ def outermost_twins(equations, at):
     return twins
 
 
-def leading_back(bodies, first):
+def leading_back(leads, first):
     """The list of the equations behind one that lead to it, by such ones, without a step."""
-    found = [first]
-    done = 0
-    while done < len(found):
-        for at in range(first + 1, len(bodies)):
-            if at not in found and found[done] in leading(bodies[at]):
-                found.append(at)
-        done += 1
-    return found[1:]
+    ways = {at: leads[at] for at in range(first, len(leads))}
+    return flood(first, turned(ways), {})[1:]
 
 
 def leading(body):
