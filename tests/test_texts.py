@@ -125,6 +125,15 @@ def told_position(text):
     return None if is_whole(word) else len(text)
 
 
+def position_of(text):
+    """The position of the error that reading a text raises, or None if it raises none."""
+    try:
+        parse_statement(text)
+    except StatementSyntaxError as error:
+        return error.position
+    return None
+
+
 class Printing(unittest.TestCase):
     def test_printed(self):
         for statement, text in PRINTED:
@@ -200,13 +209,7 @@ class Reading(unittest.TestCase):
                  "mu x0.", "(mu x1.", "(p0", "& x1", "7", "?", "x"]
         for _ in range(4000):
             text = rng.choice(("", " ")).join(rng.choices(words, k=rng.randint(0, 9)))
-            told = told_position(text)
-            try:
-                parse_statement(text)
-                position = None
-            except StatementSyntaxError as error:
-                position = error.position
-            self.assertEqual(position, told, text)
+            self.assertEqual(position_of(text), told_position(text), text)
 
     def test_statements_with_one_character_changed(self):
         rng = generator(14)
@@ -214,13 +217,7 @@ class Reading(unittest.TestCase):
             text = format_statement(random_statement(rng, rng.randint(1, 9), free=(12,)))
             at = rng.randrange(len(text))
             text = text[:at] + rng.choice(["", "(", ")", " ", "x", "&", "0", "m", "."]) + text[at + 1:]
-            told = told_position(text)
-            try:
-                parse_statement(text)
-                position = None
-            except StatementSyntaxError as error:
-                position = error.position
-            self.assertEqual(position, told, text)
+            self.assertEqual(position_of(text), told_position(text), text)
 
     def test_as_long_as_texts_may_be(self):
         text = "(" * 30 + "p0" + ")" * 30
