@@ -10,7 +10,7 @@ Taking least and greatest fixed points within one another instead would double t
 each change between them.
 """
 
-from fixworlds.masks import mask_of, states_in
+from fixworlds.masks import led, mask_of, states_in, step_masks
 from fixworlds.nets import ranks_of
 from fixworlds.parts import JOINS, STEPPERS
 
@@ -28,7 +28,7 @@ class Board:
         for node, inner in enumerate(net.inner):
             for part in inner:
                 self.around[part].append(node)
-        ranks = ranks_of(net)
+        ranks = ranks_of(net.heads, net.inner, range(len(net.heads)))
         self.by_rank = [[] for _ in range(max(ranks.values(), default=-1) + 1)]
         for node, rank in ranks.items():
             self.by_rank[rank].append(node)
@@ -36,21 +36,12 @@ class Board:
         self.before = {}
         for head in net.heads:
             if head[0] in STEPPERS and head[1] not in self.behind:
-                self._take_label(head[1])
+                behind, before = step_masks(len(world.states), world.steps, head[1])
+                self.behind[head[1]] = behind
+                self.before[head[1]] = before
         nodes = range(len(net.heads))
         self.won_at_once = [self._won_at_once(node) for node in nodes]
         self.lost_at_once = [self._lost_at_once(node) for node in nodes]
-
-    def _take_label(self, label):
-        """Keeps the masks of the states behind and before each state, by steps with a label."""
-        behind = [0] * len(self.world.states)
-        before = [0] * len(self.world.states)
-        for start, other, end in self.world.steps:
-            if other == label:
-                behind[start] |= 1 << end
-                before[end] |= 1 << start
-        self.behind[label] = behind
-        self.before[label] = before
 
     def _won_at_once(self, node):
         """The states at which a play ends at a node, and player 0 wins."""
@@ -149,10 +140,7 @@ class Board:
 
     def _led_by_step(self, player, head, left, news, escapes):
         """The states among those left with a step to the news, or with no step to an escape."""
-        before = 0
-        for state in states_in(news):
-            before |= self.before[head[1]][state]
-        before &= left
+        before = led(self.before[head[1]], news) & left
         if CHOOSERS[head[0]] == player:
             return before
         behind = self.behind[head[1]]

@@ -2,6 +2,8 @@
 
 from fixworlds.components import flood, turned
 from fixworlds.equations import closed_statement, equations_of
+from fixworlds.errors import NotGuarded
+from fixworlds.joins import joined
 from fixworlds.parts import JOINS, STEPPERS, binder_places, nearest_around, parts_of
 from fixworlds.statements import ensure_closed
 
@@ -16,6 +18,13 @@ def is_guarded(statement):
     places = binder_places(parts)
     steppers = nearest_around(parts, STEPPERS)
     return all(stepper >= place for stepper, place in zip(steppers, places))
+
+
+def ensure_guarded(statement):
+    """Raises NotClosed if a variable is free in a statement, then NotGuarded if it is not guarded."""
+    ensure_closed(statement)
+    if not is_guarded(statement):
+        raise NotGuarded("a variable stands within no some or all within its binder")
 
 
 def guarded(statement):
@@ -92,28 +101,3 @@ def rewritten(body, unguarded, others):
         elif head[0] in JOINS:
             made[at] = joined(head[0], inner[0], inner[1])
     return made[0]
-
-
-def joined(word, left, right):
-    """Two statements joined, without one that changes nothing."""
-    neutral, deciding = ("true",), ("false",)
-    if word == "or":
-        neutral, deciding = deciding, neutral
-    if deciding in (left, right):
-        return deciding
-    if left == neutral or left in operands(word, right):
-        return right
-    if right == neutral or right in operands(word, left):
-        return left
-    return word, left, right
-
-
-def operands(word, statement):
-    """The list of the statements that are joined by a word in a statement, itself the first."""
-    found = [statement]
-    done = 0
-    while done < len(found):
-        if found[done][0] == word:
-            found.extend(found[done][1:])
-        done += 1
-    return found

@@ -17,3 +17,22 @@ def mask_of(states):
     for state in states:
         mask |= 1 << state
     return mask
+
+
+def led(rows, mask):
+    """The union of the rows of the states in a set; rows has a mask for each state."""
+    union = 0
+    for state in states_in(mask):
+        union |= rows[state]
+    return union
+
+
+def step_masks(many, steps, label):
+    """The masks of the states behind and before each of so many states, by steps with a label."""
+    behind = [0] * many
+    before = [0] * many
+    for start, other, end in steps:
+        if other == label:
+            behind[start] |= 1 << end
+            before[end] |= 1 << start
+    return behind, before

@@ -53,20 +53,21 @@ class Net:
         return self._known[key]
 
 
-def ranks_of(net):
-    """For each binder on a loop of the net how much it counts there.
+def ranks_of(heads, inner, order):
+    """For each binder on a loop of nodes how much it counts there.
 
-    Of all binders that are met again and again, the one that counts most decides. The ranks of
-    greatest fixed points are even, those of least ones odd. Neighbours of one kind have one rank.
+    Of all binders that are met again and again, the one that is least in the order decides. It
+    has the greatest rank. The ranks of greatest fixed points are even, those of least ones odd.
+    Neighbours of one kind have one rank.
     """
-    ways = dict(enumerate(net.inner))
+    ways = dict(enumerate(inner))
     ranks = {}
     for members in components(ways):
         if has_loop(members, ways):
-            binders = [node for node in members if net.heads[node][0] in BINDERS]
+            binders = [node for node in members if heads[node][0] in BINDERS]
             rank = 0
-            for node in sorted(binders, reverse=True):
-                odd = 1 if net.heads[node][0] == "least" else 0
+            for node in sorted(binders, key=lambda binder: order[binder], reverse=True):
+                odd = 1 if heads[node][0] == "least" else 0
                 rank += (rank + odd) & 1
                 ranks[node] = rank
     return ranks

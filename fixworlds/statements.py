@@ -46,6 +46,11 @@ def tidy(statement):
 def opposite(statement):
     """The statement that is true where a closed statement is not."""
     ensure_closed(statement)
+    return exchanged(statement)
+
+
+def exchanged(statement):
+    """A statement with each word exchanged for its opposite; variables may be free in it."""
     parts = parts_of(statement)
     heads = [(OPPOSITES[part.head[0]],) + part.head[1:] for part in parts]
     return built(parts, heads)
@@ -60,6 +65,11 @@ def unfolded(statement):
 def closure(statement):
     """The list of the statements to which a debate about a closed statement can come."""
     shelf = Shelf()
+    return [shelf.statements[number] for number in closure_numbers(shelf, statement)]
+
+
+def closure_numbers(shelf, statement):
+    """The list of the numbers of the closure of a closed statement."""
     found = [shelf.numbered(tidy(statement))]
     known = {found[0]: True}
     done = 0
@@ -69,7 +79,7 @@ def closure(statement):
                 known[number] = True
                 found.append(number)
         done += 1
-    return [shelf.statements[number] for number in found]
+    return found
 
 
 def behind(shelf, number):

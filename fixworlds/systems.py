@@ -1,12 +1,11 @@
 """Systems of equations between sets of states."""
 
-from fixworlds.boards import Board
 from fixworlds.equations import closed_statement, equations_of
 from fixworlds.errors import InvalidSystem, TooLarge
 from fixworlds.limits import is_number
 from fixworlds.masks import states_in
-from fixworlds.nets import Net
 from fixworlds.parts import BINDERS, parts_of
+from fixworlds.solutions import solved
 
 MOST_EQUATIONS = 12
 
@@ -35,14 +34,7 @@ def check_body(body, greatest):
 
 def solution(world, system):
     """The tuple with the list of the states of each variable."""
-    net = Net()
-    # The nodes are numbered as the equations: so an equation counts more than those behind it.
-    roots = [net.new_node((kind, index)) for index, (kind, _) in enumerate(system.equations)]
-    bound = dict(enumerate(roots))
-    for root, (_, body) in zip(roots, system.equations):
-        net.inner[root] = (net.node(body, bound),)
-    truths = Board(world, net).truths()
-    return tuple([states_in(truths[root]) for root in roots])
+    return tuple([states_in(mask) for mask in solved(world, system.equations)])
 
 
 def system_of(statement):

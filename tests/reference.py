@@ -117,3 +117,40 @@ def random_world(rng, states, labels=2, facts=2, chance=0.3):
 def generator(seed):
     """A source of numbers that is the same in each run."""
     return random.Random(seed)
+
+
+def likeness(states, steps, one_sided=False):
+    """The pairs (s, t) that point 20 tells of: like one another, or t can do all that s can."""
+    every = range(len(states))
+    pairs = {(s, t) for s in every for t in every if set(states[s]) == set(states[t])}
+
+    def follows_all(s, t, turn):
+        return all(
+            any(b == t and other == label and ((e, end) if turn else (end, e)) in pairs
+                for b, other, e in steps)
+            for begin, label, end in steps if begin == s)
+
+    while True:
+        left = {(s, t) for s, t in pairs
+                if follows_all(s, t, False) and (one_sided or follows_all(t, s, True))}
+        if left == pairs:
+            return pairs
+        pairs = left
+
+
+def classes_of(many, pairs):
+    """The numbers of classes, by ascending least states, of a relation that parts states."""
+    least = [min(t for t in range(many) if (s, t) in pairs) for s in range(many)]
+    order = sorted(set(least))
+    return tuple(order.index(each) for each in least)
+
+
+def shuffled_copy(rng, labels, facts, states, steps):
+    """The parts of a world in which each state stands twice, like the one that it is a copy of."""
+    many = len(states)
+    copied = set()
+    for begin, label, end in steps:
+        for shift in (0, many):
+            ends = rng.choice([(0,), (many,), (0, many)])
+            copied |= {(begin + shift, label, end + other) for other in ends}
+    return labels, facts, list(states) + list(states), sorted(copied)

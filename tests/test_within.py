@@ -2,10 +2,15 @@
 
 import unittest
 
+from fixworlds.closures import Closure
 from fixworlds.components import components, has_loop
-from fixworlds.masks import mask_of, states_in
+from fixworlds.finders import Finder
+from fixworlds.joins import all_of, any_of
+from fixworlds.masks import led, mask_of, states_in, step_masks
 from fixworlds.nets import Net, ranks_of
 from fixworlds.parts import built, nearest_around, parts_of
+from fixworlds.rounds import Rounds
+from fixworlds.statements import closure, tidy, unfolded
 from tests.reference import generator, random_statement, size
 
 
@@ -88,7 +93,7 @@ class Nets(unittest.TestCase):
         inner = ("most", 1, ("or", ("some", 0, ("var", 0)), ("all", 0, ("var", 1))))
         net = Net()
         net.node(("and", ("least", 0, inner), ("least", 5, ("some", 0, ("least", 6, ("var", 6))))), {})
-        told = {net.heads[node]: rank for node, rank in ranks_of(net).items()}
+        told = {net.heads[node]: rank for node, rank in ranks_of(net.heads, net.inner, range(len(net.heads))).items()}
         self.assertEqual(told, {("least", 0): 1, ("most", 1): 0, ("least", 6): 1})
 
 
@@ -96,3 +101,60 @@ class Masks(unittest.TestCase):
     def test_states(self):
         for states in ([], [0], [3, 64, 399]):
             self.assertEqual(states_in(mask_of(states)), states)
+
+    def test_steps(self):
+        steps = [(0, 0, 1), (0, 0, 2), (1, 1, 0), (2, 0, 2)]
+        behind, before = step_masks(3, steps, 0)
+        self.assertEqual((behind, before), ([6, 0, 4], [0, 1, 5]))
+        self.assertEqual([led(behind, mask) for mask in (0, 1, 2, 4, 7)], [0, 6, 0, 4, 6])
+
+
+class Closures(unittest.TestCase):
+    def test_random(self):
+        rng = generator(42)
+        for _ in range(200):
+            statement = random_statement(rng, rng.randint(1, 20))
+            told = Closure(statement)
+            self.assertEqual(told.statements, sorted(closure(statement)))
+            self.assertEqual(told.statements[told.top], tidy(statement))
+            finder = Finder(closure(statement))
+            for at, part in enumerate(closure(statement)):
+                self.assertEqual(finder.place(part), at)
+            for part, head, inner in zip(told.statements, told.heads, told.inner):
+                self.assertEqual(part[:len(head)], head)
+                if part[0] in ("least", "most"):
+                    self.assertEqual([told.statements[at] for at in inner], [unfolded(part)])
+                else:
+                    self.assertEqual([told.statements[at] for at in inner],
+                                     [each for each in part[1:] if isinstance(each, tuple)])
+
+    def test_ranks(self):
+        told = Closure(("most", 0, ("least", 1, ("least", 2, ("some", 0, (
+            "or", ("var", 0), ("or", ("var", 1), ("or", ("var", 2), ("least", 3, ("true",))))))))))
+        self.assertEqual(sorted((told.heads[at], rank) for at, rank in told.ranks.items()),
+                         [(("least", 1), 1), (("least", 2), 1), (("most", 0), 2)])
+
+
+class Joins(unittest.TestCase):
+    def test_few_around_each(self):
+        facts = [("has", at % 6) for at in range(100)]
+        for joined, word in ((all_of(facts), "and"), (any_of(facts), "or")):
+            parts = parts_of(joined)
+            self.assertEqual([part.head for part in parts if part.head != (word,)], facts)
+            depth = [0] * len(parts)
+            for at, part in enumerate(parts[1:], 1):
+                depth[at] = depth[part.around] + 1
+            self.assertEqual(max(depth), 7)
+
+    def test_none_and_one(self):
+        self.assertEqual((all_of([]), any_of([])), (("true",), ("false",)))
+        self.assertEqual((all_of([("has", 1)]), any_of([("has", 1)])), (("has", 1), ("has", 1)))
+
+
+class Alike(unittest.TestCase):
+    def test_rounds(self):
+        rounds = Rounds(((), (), (), (0,), ()), [(0, 0, 1), (1, 0, 2), (2, 0, 3)])
+        found = [rounds.numbers()]
+        while rounds.part():
+            found.append(rounds.numbers())
+        self.assertEqual(found, [(0, 0, 0, 1, 0), (0, 0, 1, 2, 3), (0, 1, 2, 3, 4)])
