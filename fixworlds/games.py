@@ -3,7 +3,7 @@
 from fixworlds.components import components, flood, has_loop
 from fixworlds.errors import InvalidGame
 from fixworlds.limits import ascends, is_number
-from fixworlds.measures import Measures
+from fixworlds.measures import Measures, winners_and_choice, winners_of
 
 MOST_POSITIONS = 4000
 MOST_PRIORITY = 200
@@ -40,29 +40,12 @@ def check_moves(ends, many):
 
 def solve(game):
     """The winner of each position, and a choice that is winning for both players."""
-    # With the players exchanged the bounds are those of player 1's gains: player 0 holds them.
-    exchanged = Measures(
-        [1 - owner for owner in game.owners],
-        [priority + 1 for priority in game.priorities],
-        game.moves,
-    )
-    holders = (exchanged, Measures(game.owners, game.priorities, game.moves))
-    winners = winners_of(holders[1])
-    choices = [-1] * len(winners)
-    for at, winner in enumerate(winners):
-        if winner == game.owners[at]:
-            choices[at] = holders[winner].held(at)
-    return winners, tuple(choices)
+    return winners_and_choice(game.owners, game.priorities, game.moves)
 
 
 def winners_by_measures(game):
     """The winner of each position, found without strategies."""
     return winners_of(Measures(game.owners, game.priorities, game.moves))
-
-
-def winners_of(measures):
-    """The tuple of the winners: player 1 where the gains of player 0 are bounded."""
-    return tuple([0 if bound is None else 1 for bound in measures.bounds])
 
 
 def is_winning(game, player, positions, choice):

@@ -117,3 +117,28 @@ def gains_of(priorities):
         gains[priority] = -size if priority & 1 else size
         size *= base
     return [gains[priority] for priority in priorities]
+
+
+def holder_of(player, owners, priorities, moves):
+    """The measures by whose bounds a player holds the positions that the player wins."""
+    if player == 1:
+        return Measures(owners, priorities, moves)
+    # With the players exchanged the bounds are those of player 1's gains: player 0 holds them.
+    exchanged = [1 - owner for owner in owners]
+    return Measures(exchanged, [priority + 1 for priority in priorities], moves)
+
+
+def winners_and_choice(owners, priorities, moves):
+    """The winner of each position of a game, and a choice that is winning for both players."""
+    holders = [holder_of(player, owners, priorities, moves) for player in (0, 1)]
+    winners = winners_of(holders[1])
+    choices = [-1] * len(winners)
+    for at, winner in enumerate(winners):
+        if winner == owners[at]:
+            choices[at] = holders[winner].held(at)
+    return winners, tuple(choices)
+
+
+def winners_of(measures):
+    """The tuple of the winners: player 1 where the gains of player 0 are bounded."""
+    return tuple([0 if bound is None else 1 for bound in measures.bounds])

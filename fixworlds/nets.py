@@ -57,17 +57,33 @@ def ranks_of(heads, inner, order):
     """For each binder on a loop of nodes how much it counts there.
 
     Of all binders that are met again and again, the one that is least in the order decides. It
-    has the greatest rank. The ranks of greatest fixed points are even, those of least ones odd.
-    Neighbours of one kind have one rank.
+    has the greatest rank of them. The ranks of greatest fixed points are even, those of least
+    ones odd. A rank is greater than another one only if there are loops on which this matters.
     """
     ways = dict(enumerate(inner))
+    levels = []
+    waiting = [list(ways)]
+    while waiting:
+        part = {node: ways[node] for node in waiting.pop()}
+        for members in components(part):
+            if has_loop(members, part):
+                leading = leading_binders(members, heads, order)
+                levels.append((leading, members))
+                waiting.append([node for node in members if node not in leading])
     ranks = {}
-    for members in components(ways):
-        if has_loop(members, ways):
-            binders = [node for node in members if heads[node][0] in BINDERS]
-            rank = 0
-            for node in sorted(binders, key=lambda binder: order[binder], reverse=True):
-                odd = 1 if heads[node][0] == "least" else 0
-                rank += (rank + odd) & 1
-                ranks[node] = rank
+    # Behind each level come those of the loops that are left without its leading binders.
+    for leading, members in reversed(levels):
+        odd = 1 if heads[leading[0]][0] == "least" else 0
+        rank = max([ranks[node] for node in members if node in ranks], default=odd)
+        for node in leading:
+            ranks[node] = rank + ((rank + odd) & 1)
     return ranks
+
+
+def leading_binders(members, heads, order):
+    """The binders of one kind that are before all others of some nodes in the order."""
+    binders = [node for node in members if heads[node][0] in BINDERS]
+    binders = sorted(binders, key=lambda binder: order[binder])
+    leading = [node for node in binders if heads[node][0] == heads[binders[0]][0]]
+    others = [order[node] for node in binders if heads[node][0] != heads[binders[0]][0]]
+    return [node for node in leading if not others or order[node] < min(others)]

@@ -173,6 +173,6 @@ def all_rounds(world):
     """The list of the numbers of all states before the first round and behind each one."""
     rounds = Rounds(world.states, world.steps)
     found = [rounds.numbers()]
-    while rounds.part():
+    while rounds.advance():
         found.append(rounds.numbers())
     return found

@@ -23,9 +23,11 @@ def portrait(world, state, labels, facts):
     part, _ = reachable_part(world, [state])
     small = folded(part)
     signs = signs_of(small)
+    places = range(len(small.states))
     rows = [
-        all_of([signs[at]] + fact_signs(small.states[at], facts) + step_signs(small, at, labels, signs))
-        for at in range(len(small.states))
+        all_of([signs[at]] + fact_signs(small.states[at], facts)
+               + step_signs(small, at, labels, signs, places))
+        for at in places
     ]
     onward = [("all", label, ("var", 0)) for label in range(labels)]
     return ("and", signs[classes(part)[0]], ("most", 0, all_of([any_of(rows)] + onward)))

@@ -17,7 +17,7 @@ class Rounds:
         self._blocks = like_at_once(rows)
         self._fresh = self._blocks
 
-    def part(self):
+    def advance(self):
         """Does a round; returns True if it parts something.
 
         Only sets that are new since the last round can part others.
@@ -69,7 +69,7 @@ def least_of(block):
 def folded_rows(rows, steps):
     """The facts of the classes of states, the steps between classes, and the classes' numbers."""
     rounds = Rounds(rows, steps)
-    while rounds.part():
+    while rounds.advance():
         pass
     numbers = rounds.numbers()
     kept = {}

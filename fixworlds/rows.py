@@ -4,6 +4,7 @@ from fixworlds.components import flood, turned
 from fixworlds.joins import joined
 from fixworlds.nets import Net, ranks_of
 from fixworlds.parts import BINDERS, JOINS, STEPPERS
+from fixworlds.priorities import worth
 
 
 class RowWriter:
@@ -53,9 +54,8 @@ class RowWriter:
         if word in JOINS:
             left, right = [self._met(part, rank) for part in inner]
             if left[0] == right[0]:
-                worse = min(left, right, key=worth)
-                better = max(left, right, key=worth)
-                return worse if word == "and" else better
+                worse, better = sorted([left[1], right[1]], key=worth)
+                return left[0], worse if word == "and" else better
         return node, rank
 
     def _row(self, node, rank):
@@ -72,9 +72,3 @@ class RowWriter:
         if head[0] in BINDERS:
             return self._row(inner[0], max(rank, self._ranks.get(node, 0)))
         return head
-
-
-def worth(met):
-    """How much it is worth for player 0 to meet a node with a rank."""
-    _, rank = met
-    return -rank if rank & 1 else rank

@@ -9,11 +9,17 @@ def fact_signs(row, facts):
     return [("has" if fact in row else "lacks", fact) for fact in range(facts)]
 
 
-def step_signs(world, state, labels, signs):
-    """The list of statements that tell where the steps from a state lead, by signs of all states."""
+def step_signs(world, state, labels, signs, numbers):
+    """The list of statements that tell where the steps from a state lead, by signs of all states.
+
+    States with the same number have signs that are true at the same states.
+    """
     found = []
     for label in range(labels):
-        ends = [signs[end] for end in followers(world, state, label)]
+        chosen = {}
+        for end in followers(world, state, label):
+            chosen.setdefault(numbers[end], signs[end])
+        ends = list(chosen.values())
         found.extend([("some", label, sign) for sign in ends])
         found.append(("all", label, any_of(ends)))
     return found

@@ -155,6 +155,6 @@ class Alike(unittest.TestCase):
     def test_rounds(self):
         rounds = Rounds(((), (), (), (0,), ()), [(0, 0, 1), (1, 0, 2), (2, 0, 3)])
         found = [rounds.numbers()]
-        while rounds.part():
+        while rounds.advance():
             found.append(rounds.numbers())
         self.assertEqual(found, [(0, 0, 0, 1, 0), (0, 0, 1, 2, 3), (0, 1, 2, 3, 4)])

@@ -1,0 +1,67 @@
+"""Who wins the game about whether a statement is true anywhere, and how."""
+
+from fixworlds.measures import holder_of
+
+LEAST_GROWTH = 8
+
+
+def search(arena):
+    """The winner at the first place, and a dict with the move to choose at places of the winner.
+
+    Arenas can be far larger than what decides. So places that are not explored count as won by
+    player 0, and only those are explored to which player 0 then comes, and some behind them.
+    """
+    while True:
+        owners, worths, ends = arena.game()
+        holder = holder_of(0, owners, worths, ends)
+        if holder.bounds[0] is None:
+            return 1, choices(arena, holder_of(1, owners, worths, ends), ends, "step")
+        chosen = choices(arena, holder, ends, "either")
+        reached = reached_places(arena, chosen)
+        if all([arena.places[at].kind is not None for at in reached]):
+            return 0, chosen
+        spread(arena, [at for at in reached if arena.places[at].kind is None])
+
+
+def choices(arena, holder, ends, kind):
+    """The moves that hold what is won, at places of a kind."""
+    chosen = {}
+    for at, place in enumerate(arena.places):
+        if place.kind == kind and holder.bounds[at] is not None:
+            held = holder.held(at)
+            for move, end in zip(place.moves, ends[at]):
+                if end == held:
+                    chosen[at] = move
+    return chosen
+
+
+def reached_places(arena, chosen):
+    """The list of the places that are reached from the first one, by chosen moves where there are any."""
+    reached = [0]
+    known = {0: True}
+    done = 0
+    while done < len(reached):
+        at = reached[done]
+        moves = [chosen[at]] if at in chosen else arena.places[at].moves
+        for _, _, end in moves:
+            if end not in known:
+                known[end] = True
+                reached.append(end)
+        done += 1
+    return reached
+
+
+def spread(arena, starts):
+    """Explores some places and what is behind them, so that the arena grows by a half or more."""
+    explored = len([place for place in arena.places if place.kind is not None])
+    most = max(LEAST_GROWTH, len(starts), explored // 2)
+    waiting = list(starts)
+    known = {at: True for at in waiting}
+    done = 0
+    while done < min(most, len(waiting)):
+        arena.explore(waiting[done])
+        for _, _, end in arena.places[waiting[done]].moves:
+            if end not in known and arena.places[end].kind is None:
+                known[end] = True
+                waiting.append(end)
+        done += 1
