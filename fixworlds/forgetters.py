@@ -8,10 +8,10 @@ a state of its own, and whether this has the fact is told by its claim alone.
 """
 
 from fixworlds.arenas import Arena
+from fixworlds.contests import Contest
 from fixworlds.errors import TooLarge
 from fixworlds.joins import all_of, any_of
 from fixworlds.machines import MOST_STATES
-from fixworlds.measures import holder_of
 from fixworlds.parts import STEPPERS
 from fixworlds.priorities import priorities_of, worth
 
@@ -30,8 +30,8 @@ class Forgetter:
         self._rests = {}
         self._explore_all()
         owners, worths, ends = self._arena.game()
-        bounds = holder_of(1, owners, worths, ends).bounds
-        self._true_somewhere = [bounds[at] is None for at in range(len(self._arena.places))]
+        winners = Contest(owners, worths, ends).winners
+        self._true_somewhere = [winner == 0 for winner in winners]
         self._events = self._event_priorities()
         self._landings = {}
         self._states = {}

@@ -1,6 +1,6 @@
 """Who wins the game about whether a statement is true anywhere, and how."""
 
-from fixworlds.measures import holder_of
+from fixworlds.contests import Contest
 
 LEAST_GROWTH = 8
 
@@ -13,24 +13,24 @@ def search(arena):
     """
     while True:
         owners, worths, ends = arena.game()
-        holder = holder_of(0, owners, worths, ends)
-        if holder.bounds[0] is None:
-            return 1, choices(arena, holder_of(1, owners, worths, ends), ends, "step")
-        chosen = choices(arena, holder, ends, "either")
+        contest = Contest(owners, worths, ends)
+        if contest.winners[0] == 1:
+            return 1, choices(arena, contest, 1, ends)
+        chosen = choices(arena, contest, 0, ends)
         reached = reached_places(arena, chosen)
         if all([arena.places[at].kind is not None for at in reached]):
             return 0, chosen
         spread(arena, [at for at in reached if arena.places[at].kind is None])
 
 
-def choices(arena, holder, ends, kind):
-    """The moves that hold what is won, at places of a kind."""
+def choices(arena, contest, player, ends):
+    """The moves that a player chooses at the places of the player that the player wins."""
+    kind = "step" if player == 1 else "either"
     chosen = {}
     for at, place in enumerate(arena.places):
-        if place.kind == kind and holder.bounds[at] is not None:
-            held = holder.held(at)
+        if place.kind == kind and contest.winners[at] == player:
             for move, end in zip(place.moves, ends[at]):
-                if end == held:
+                if end == contest.chosen[at]:
                     chosen[at] = move
     return chosen
 
