@@ -22,14 +22,14 @@ class Debate:
         pairs = [(state, place) for place in places for state in range(self._many)]
         owners = [owner(world, state, self._closure.heads[place]) for state, place in pairs]
         priorities = [self._closure.ranks.get(place, 0) for _, place in pairs]
-        moves = [self._moves(world, state, place) for state, place in pairs]
+        moves = [self._onward(world, state, place) for state, place in pairs]
         self._winners, self._choice = solve(Game(owners, priorities, moves))
 
     def _position(self, state, place):
         """The position in the game at a state and at the place of a statement in the closure."""
         return place * self._many + state
 
-    def _moves(self, world, state, place):
+    def _onward(self, world, state, place):
         head = self._closure.heads[place]
         inner = self._closure.inner[place]
         if head[0] in STEPPERS:

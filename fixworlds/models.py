@@ -15,7 +15,8 @@ def model_of(arena, chosen):
     steps = {}
     done = 0
     while done < len(order):
-        for part, _, end in arena.places[order[done]].moves:
+        place = arena.places[order[done]]
+        for part, _, end in place.moves:
             at = landing(arena, chosen, end)
             if at not in states:
                 states[at] = len(order)

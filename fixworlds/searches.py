@@ -59,8 +59,9 @@ def spread(arena, starts):
     known = {at: True for at in waiting}
     done = 0
     while done < min(most, len(waiting)):
-        arena.explore(waiting[done])
-        for _, _, end in arena.places[waiting[done]].moves:
+        at = waiting[done]
+        arena.explore(at)
+        for _, _, end in arena.places[at].moves:
             if end not in known and arena.places[end].kind is None:
                 known[end] = True
                 waiting.append(end)

@@ -4,14 +4,18 @@ import unittest
 
 from fixworlds.closures import Closure
 from fixworlds.components import components, has_loop
+from fixworlds.contests import Contest
 from fixworlds.finders import Finder
+from fixworlds.games import Game, is_winning, winners_by_measures
 from fixworlds.joins import all_of, any_of
 from fixworlds.masks import led, mask_of, states_in, step_masks
 from fixworlds.nets import Net, ranks_of
 from fixworlds.parts import built, nearest_around, parts_of
 from fixworlds.rounds import Rounds
 from fixworlds.statements import closure, tidy, unfolded
+from fixworlds.threads import Threads
 from tests.reference import generator, random_statement, size
+from tests.test_games import random_game
 
 
 def reach(start, ways):
@@ -158,3 +162,46 @@ class Alike(unittest.TestCase):
         while rounds.advance():
             found.append(rounds.numbers())
         self.assertEqual(found, [(0, 0, 0, 1, 0), (0, 0, 1, 2, 3), (0, 1, 2, 3, 4)])
+
+
+class Contests(unittest.TestCase):
+    def test_random(self):
+        rng = generator(43)
+        for _ in range(500):
+            lists = random_game(rng, rng.randint(1, 25), rng.randint(0, 8), 4)
+            game, contest = Game(*lists), Contest(*lists)
+            self.assertEqual(tuple(contest.winners), winners_by_measures(game))
+            for player in (0, 1):
+                won = [at for at, winner in enumerate(contest.winners) if winner == player]
+                self.assertTrue(is_winning(game, player, won, contest.chosen))
+
+    def test_winner_who_has_no_move(self):
+        contest = Contest([0, 1, 0], [0, 0, 0], [[], [0, 2], [2]])
+        self.assertEqual((contest.winners, contest.chosen[1]), ([1, 1, 0], 0))
+
+
+class FollowedThreads(unittest.TestCase):
+    def test_name_is_renewed_on_each_round(self):
+        told = Closure(("least", 0, ("some", 0, ("var", 0))))
+        inner = told.inner[told.top][0]
+        threads = Threads(told)
+        state, events = threads.first(), []
+        for _ in range(4):
+            for pair in ((told.top, inner), (inner, told.top)):
+                event, state = threads.followed(state, [pair])
+                events.append(event)
+        self.assertEqual(events, [None, None, 1, None, 1, None, 1, None])
+        self.assertEqual(state, (((told.top, (0,)),), (1,)))
+
+    def test_greater_rank_ends_a_name(self):
+        told = Closure(("most", 0, ("least", 1, ("some", 0, ("or", ("var", 0), ("var", 1))))))
+        threads = Threads(told)
+        state, events = threads.first(), []
+        ring = [told.top]
+        while ring[-1] != told.top or len(ring) == 1:
+            ring.append(told.inner[ring[-1]][0])
+        for _ in range(3):
+            for pair in zip(ring, ring[1:]):
+                event, state = threads.followed(state, [pair])
+                events.append(event)
+        self.assertEqual(set(events), {None, 0})
