@@ -7,32 +7,38 @@ there is a bad thread through its claims; player 0 wins if there is no some.
 
 from fixworlds.claims import Claims, behind_all, ways_on
 from fixworlds.priorities import priorities_of
-from fixworlds.threads import Threads
 
 
 class Place:
     """A claim with the state of its threads; how it goes on is known once it is explored.
 
     Then it has a kind and a part as in a refutation, and moves: tuples (part, event, end) with
-    the number of the place behind. At a step there is one for each some.
+    the number of the place behind. At a step there is one for each some. A place without a
+    state is given up: it is lost as a clash is.
     """
 
     def __init__(self, state):
         self.state = state
-        self.claim = tuple([place for place, _ in state[0]])
-        self.kind = None
+        self.claim = ()
+        self.kind = "clash"
+        if state is not None:
+            self.claim = tuple([place for place, _ in state[0]])
+            self.kind = None
         self.part = None
         self.moves = []
 
 
 class Arena:
-    """The places that have been met, by number; the first one has the statement alone."""
+    """The places that have been met, by number; the first one has the statement alone.
 
-    def __init__(self, closure):
+    Threads tells how the threads are followed.
+    """
+
+    def __init__(self, closure, threads):
         self.closure = closure
         self.places = []
         self._rules = Claims(closure)
-        self._threads = Threads(closure)
+        self._threads = threads
         self._numbers = {}
         self._number(self._threads.first())
 

@@ -1,6 +1,5 @@
 """Whether statements are true anywhere: a world, or a refutation."""
 
-from fixworlds.arenas import Arena
 from fixworlds.checks import Check
 from fixworlds.closures import Closure
 from fixworlds.errors import TooLarge
@@ -8,7 +7,7 @@ from fixworlds.guards import ensure_guarded
 from fixworlds.models import model_of
 from fixworlds.parts import parts_of
 from fixworlds.refutations import refutation_of
-from fixworlds.searches import search
+from fixworlds.searches import decided_arena
 from fixworlds.statements import opposite
 
 MOST_PARTS = 40
@@ -19,8 +18,7 @@ def decide(statement):
     ensure_guarded(statement)
     if len(parts_of(statement)) > MOST_PARTS:
         raise TooLarge("the statement has more than 40 parts")
-    arena = Arena(Closure(statement))
-    winner, chosen = search(arena)
+    arena, winner, chosen = decided_arena(Closure(statement))
     if winner == 0:
         world, state = model_of(arena, chosen)
         return "world", world, state

@@ -14,6 +14,7 @@ from fixworlds.joins import all_of, any_of
 from fixworlds.machines import MOST_STATES
 from fixworlds.parts import STEPPERS
 from fixworlds.priorities import priorities_of, worth
+from fixworlds.threads import Threads
 
 
 class Forgetter:
@@ -26,7 +27,7 @@ class Forgetter:
     def __init__(self, closure, fact):
         self._closure = closure
         self._fact = fact
-        self._arena = Arena(closure)
+        self._arena = Arena(closure, Threads(closure))
         self._rests = {}
         self._explore_all()
         owners, worths, ends = self._arena.game()

@@ -1,15 +1,39 @@
 """Who wins the game about whether a statement is true anywhere, and how."""
 
+from fixworlds.arenas import Arena
 from fixworlds.contests import Contest
+from fixworlds.counters import Counters
+from fixworlds.threads import Threads
 
 LEAST_GROWTH = 8
+FEW_PLACES = 5000
+MORE_PLACES = 20000
+COUNTS = (1, 2, 3)
 
 
-def search(arena):
+def decided_arena(closure):
+    """An arena, the winner at its first place, and a dict with the moves that the winner chooses.
+
+    Where the arena gets large, a world may still be found soon if threads are only counted.
+    """
+    arena = Arena(closure, Threads(closure))
+    winner, chosen = search(arena, FEW_PLACES)
+    if winner is None:
+        for most in COUNTS:
+            counted = Arena(closure, Counters(closure, most))
+            winner, chosen = search(counted, MORE_PLACES)
+            if winner == 0:
+                return counted, winner, chosen
+        winner, chosen = search(arena, None)
+    return arena, winner, chosen
+
+
+def search(arena, most):
     """The winner at the first place, and a dict with the move to choose at places of the winner.
 
     Arenas can be far larger than what decides. So places that are not explored count as won by
     player 0, and only those are explored to which player 0 then comes, and some behind them.
+    The winner is None if it is not known once there are more than so many places.
     """
     while True:
         owners, worths, ends = arena.game()
@@ -20,6 +44,8 @@ def search(arena):
         reached = reached_places(arena, chosen)
         if all([arena.places[at].kind is not None for at in reached]):
             return 0, chosen
+        if most is not None and len(arena.places) > most:
+            return None, {}
         spread(arena, [at for at in reached if arena.places[at].kind is None])
 
 

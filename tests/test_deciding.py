@@ -3,8 +3,13 @@
 import itertools
 import unittest
 
+from fixworlds.arenas import Arena
+from fixworlds.closures import Closure
+from fixworlds.counters import Counters
 from fixworlds.deciding import decide, follows, is_right, is_valid
 from fixworlds.errors import NotClosed, NotGuarded, TooLarge
+from fixworlds.models import model_of
+from fixworlds.searches import search
 from fixworlds.stages import truth
 from fixworlds.statements import opposite, tidy, unfolded
 from fixworlds.texts import parse_statement
@@ -260,6 +265,31 @@ class Decide(Checked):
         statement = parse_statement("nu x0. (mu x1. p0 | <0> x1) & (mu x2. !p0 | <0> x2) & <0> x0")
         first, second = decide(statement), decide(statement)
         self.assertEqual((first[1].states, first[1].steps, first[2]), (second[1].states, second[1].steps, second[2]))
+
+
+class Counted(unittest.TestCase):
+    def test_worlds_found_by_counting(self):
+        rng = generator(106)
+        found = [0, 0]
+        while sum(found) < 400:
+            statement = random_statement(rng, rng.randint(4, 16), labels=1)
+            if guarded_under(statement, set()):
+                closure = Closure(statement)
+                arena = Arena(closure, Counters(closure, rng.choice((1, 2, 3))))
+                winner, chosen = search(arena, None)
+                found[winner] += 1
+                if winner == 0:
+                    world, state = model_of(arena, chosen)
+                    self.assertIn(state, truth(world, statement))
+        self.assertGreater(min(found), 20)
+
+    def test_large_arena(self):
+        statement = parse_statement(
+            "nu x1. <0> <0> (x1 | x1) & [0] (mu x3. [0] (mu x0. mu x4. [0] (nu x2. [0] (mu x3. [0] (([0] [0]"
+            " (nu x4. x2 & x1) | [0] (mu x4. [0] [0] [0] (x2 & [0] x3 | x3))) & (nu x4. true))))))")
+        kind, world, state = decide(statement)
+        self.assertEqual(kind, "world")
+        self.assertIn(state, truth(world, statement))
 
 
 class Right(unittest.TestCase):

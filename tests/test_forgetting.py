@@ -3,14 +3,13 @@
 import itertools
 import unittest
 
-from fixworlds.arenas import Arena
 from fixworlds.closures import Closure
 from fixworlds.deciding import follows
 from fixworlds.errors import NotClosed, NotGuarded, TooLarge
 from fixworlds.forgetting import forgetting_machine
 from fixworlds.machines import accepted, other_machine
 from fixworlds.portraits import portrait
-from fixworlds.searches import search
+from fixworlds.searches import decided_arena
 from fixworlds.stages import truth
 from fixworlds.texts import parse_statement
 from fixworlds.worlds import World
@@ -40,7 +39,7 @@ def without_signs(statement, fact):
 def is_true_but_for(statement, world, state, fact):
     """True if, in some world, the statement is true at a state like this one but for the fact."""
     likeness = without_signs(portrait(without_fact(world, fact), state, world.labels, world.facts), fact)
-    winner, _ = search(Arena(Closure(("and", statement, likeness))))
+    _, winner, _ = decided_arena(Closure(("and", statement, likeness)))
     return winner == 0
 
 
