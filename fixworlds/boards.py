@@ -28,7 +28,7 @@ class Board:
         for node, inner in enumerate(net.inner):
             for part in inner:
                 self.around[part].append(node)
-        ranks = ranks_of(net.heads, net.inner, range(len(net.heads)))
+        ranks = ranks_of(net.heads, net.inner, list(range(len(net.heads))))
         self.by_rank = [[] for _ in range(max(ranks.values(), default=-1) + 1)]
         for node, rank in ranks.items():
             self.by_rank[rank].append(node)

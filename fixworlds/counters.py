@@ -16,8 +16,8 @@ class Counters:
     def __init__(self, closure, most):
         self._closure = closure
         self._most = most
-        ranks = closure.ranks.values()
-        self._odd_ranks = sorted({rank for rank in ranks if rank & 1}, reverse=True)
+        odd_ranks = sorted({rank for rank in closure.ranks.values() if rank & 1})
+        self._odd_ranks = odd_ranks[::-1]
 
     def first(self):
         """The state for the claim of the statement of the closure alone."""

@@ -55,8 +55,7 @@ def equations_of_machine(machine):
 
     A state with a greater priority counts more: so it stands before those with lesser ones.
     """
-    states = range(len(machine.rows))
-    order = sorted(states, key=lambda state: machine.priorities[state], reverse=True)
+    order = sorted(range(len(machine.rows)), key=lambda state: machine.priorities[state], reverse=True)
     variables = {state: ("var", 1 + at) for at, state in enumerate(order)}
     equations = [("most", variables[machine.start])]
     for state in order:

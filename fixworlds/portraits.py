@@ -23,7 +23,7 @@ def portrait(world, state, labels, facts):
     part, _ = reachable_part(world, [state])
     small = folded(part)
     signs = signs_of(small)
-    places = range(len(small.states))
+    places = list(range(len(small.states)))
     rows = [
         all_of([signs[at]] + fact_signs(small.states[at], facts)
                + step_signs(small, at, labels, signs, places))

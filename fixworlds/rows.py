@@ -18,7 +18,7 @@ class RowWriter:
     def __init__(self, statement):
         self._net = Net()
         top = self._net.node(statement, {})
-        self._ranks = ranks_of(self._net.heads, self._net.inner, range(len(self._net.heads)))
+        self._ranks = ranks_of(self._net.heads, self._net.inner, list(range(len(self._net.heads))))
         back = turned(dict(enumerate(self._net.inner)))
         self._looped = {}
         for node in self._ranks:
