@@ -2,7 +2,7 @@
 
 from fixworlds.joins import all_of, any_of
 from fixworlds.masks import led, mask_of, step_masks
-from fixworlds.rounds import Rounds
+from fixworlds.rounds import all_rounds, first_round
 from fixworlds.worlds import followers
 
 # To look at several plans keeps statements short where states differ only behind many steps.
@@ -116,11 +116,7 @@ class Partings:
 
     def _round(self, goal):
         """How many rounds it takes to part two states."""
-        first, second = goal
-        at = 0
-        while self._rounds[at][first] == self._rounds[at][second]:
-            at += 1
-        return at
+        return first_round(self._rounds, goal[0], goal[1])
 
     def _by_facts(self, goal):
         """What parts two states with different facts."""
@@ -167,12 +163,3 @@ class Partings:
 def many_goals(plan):
     """How many goals a plan has."""
     return len(plan.goals)
-
-
-def all_rounds(world):
-    """The list of the numbers of all states before the first round and behind each one."""
-    rounds = Rounds(world.states, world.steps)
-    found = [rounds.numbers()]
-    while rounds.advance():
-        found.append(rounds.numbers())
-    return found

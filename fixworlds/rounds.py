@@ -77,3 +77,20 @@ def folded_rows(rows, steps):
         kept[number] = row
     folded_steps = sorted({(numbers[start], label, numbers[end]) for start, label, end in steps})
     return [kept[number] for number in range(len(kept))], folded_steps, numbers
+
+
+def all_rounds(world):
+    """The list of the numbers of all states before the first round and behind each one."""
+    rounds = Rounds(world.states, world.steps)
+    found = [rounds.numbers()]
+    while rounds.advance():
+        found.append(rounds.numbers())
+    return found
+
+
+def first_round(rounds, first, second):
+    """How many rounds it takes to part two states that are not like one another."""
+    at = 0
+    while rounds[at][first] == rounds[at][second]:
+        at += 1
+    return at

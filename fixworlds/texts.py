@@ -14,6 +14,7 @@ STRENGTHS = {"least": 0, "most": 0, "or": 1, "and": 2}
 STRONGEST = 3
 
 DIGITS = "0123456789"
+MOST_DIGITS = 2
 
 # All tokens but those of variables; none of them begins another one.
 TOKENS = (
@@ -88,36 +89,38 @@ def enclosed(operand, needed):
 
 def parse_statement(text):
     """The statement that a text writes."""
-    return Reader(text).statement()
+    return Reader(text, MOST_DIGITS).statement()
 
 
-def token_at(text, at):
+def token_at(text, at, most_digits):
     """The token that begins there, or an empty text if none does."""
     for token in TOKENS:
         if text.startswith(token, at):
             return token
-    return variable_at(text, at)
+    return variable_at(text, at, most_digits)
 
 
-def variable_at(text, at):
+def variable_at(text, at, most_digits):
     """The token of a variable that begins there, with as many digits as can be, or an empty text."""
-    digits = text[at + 1:at + 3]
-    if text[at] != "x" or not digits or digits[0] not in DIGITS:
+    digits = text[at + 1:at + 1 + most_digits]
+    many = 0
+    while many < len(digits) and digits[many] in DIGITS:
+        many += 1
+    if text[at] != "x" or many == 0:
         return ""
-    if digits[0] == "0" or len(digits) == 1 or digits[1] not in DIGITS:
-        return text[at:at + 2]
-    return text[at:at + 3]
+    return "x0" if digits[0] == "0" else "x" + digits[:many]
 
 
 class Reader:
-    """Reads the text of a statement from the left.
+    """Reads the text of a statement from the left; a variable has at most so many digits.
 
     What is read, but not joined yet, stands in two lists: statements, and the heads of binders,
     prefixes and signs that wait for an operand, with "(" between them.
     """
 
-    def __init__(self, text):
+    def __init__(self, text, most_digits):
         self.text = text
+        self.most_digits = most_digits
         self.at = 0
         self.token = ""
         self.operands = []
@@ -131,7 +134,7 @@ class Reader:
             self.at += 1
         self.token = ""
         if self.at < len(self.text):
-            self.token = token_at(self.text, self.at)
+            self.token = token_at(self.text, self.at, self.most_digits)
 
     def _pass(self):
         """Goes on behind the token."""

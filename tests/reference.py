@@ -154,3 +154,30 @@ def shuffled_copy(rng, labels, facts, states, steps):
             ends = rng.choice([(0,), (many,), (0, many)])
             copied |= {(begin + shift, label, end + other) for other in ends}
     return labels, facts, list(states) + list(states), sorted(copied)
+
+
+def small_worlds(labels=1, facts=1, most=2):
+    """The four parts of each world with so many labels and facts and at most so many states."""
+    rows = [row for many in range(facts + 1) for row in itertools.combinations(range(facts), many)]
+    for many in range(1, most + 1):
+        steps = list(itertools.product(range(many), range(labels), range(many)))
+        for states in itertools.product(rows, repeat=many):
+            for chosen in itertools.product((False, True), repeat=len(steps)):
+                yield labels, facts, [list(row) for row in states], [
+                    step for step, taken in zip(steps, chosen) if taken]
+
+
+def rows_from(many, steps, label, state):
+    """All rows of states along steps with a label as far as they go.
+
+    Those that go on are cut where they have one state more than there are: so they have a loop.
+    """
+    waiting, found = [[state]], []
+    while waiting:
+        row = waiting.pop()
+        ends = [end for begin, other, end in steps if begin == row[-1] and other == label]
+        if ends and len(row) <= many:
+            waiting += [row + [end] for end in ends]
+        else:
+            found.append(row)
+    return found
