@@ -5,7 +5,7 @@ from fixworlds.errors import TooLarge
 from fixworlds.forgetters import Forgetter
 from fixworlds.guards import ensure_guarded
 from fixworlds.machines import Machine
-from fixworlds.parts import parts_of
+from fixworlds.parts import facts_in, parts_of
 from fixworlds.rows import RowWriter
 
 MOST_PARTS = 15
@@ -16,8 +16,14 @@ def forgetting_machine(statement, fact):
     ensure_guarded(statement)
     if len(parts_of(statement)) > MOST_PARTS:
         raise TooLarge("the statement has more than 15 parts")
-    if any([part.head in (("has", fact), ("lacks", fact)) for part in parts_of(statement)]):
-        writer = Forgetter(Closure(statement), fact)
+    return machine_without(statement, [fact])
+
+
+def machine_without(statement, facts):
+    """A machine that forgets all of some facts of a closed guarded statement."""
+    mentioned = facts_in(statement)
+    if any([fact in mentioned for fact in facts]):
+        writer = Forgetter(Closure(statement), facts)
     else:
         writer = RowWriter(statement)
     return Machine(0, writer.rows, writer.priorities)

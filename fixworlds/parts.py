@@ -75,3 +75,8 @@ def binder_places(parts):
                 place = nearest[place]
         places.append(place)
     return places
+
+
+def facts_in(statement):
+    """The ascending list of the facts that a statement mentions."""
+    return sorted({part.head[1] for part in parts_of(statement) if part.head[0] in ("has", "lacks")})

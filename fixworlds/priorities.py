@@ -1,4 +1,4 @@
-"""What priorities are worth."""
+"""What priorities and events of threads are worth."""
 
 
 def worth(priority):
@@ -17,3 +17,17 @@ def priorities_of(events):
     priorities = {event: top - event for event in known}
     priorities[None] = 0
     return priorities
+
+
+def first_event(event, other):
+    """The event of two that counts: the lesser one; None is no event."""
+    if event is None or other is None:
+        return other if event is None else event
+    return min(event, other)
+
+
+def event_worth(event):
+    """How much it is worth for player 0 to meet an event; greater ones of a kind matter less."""
+    if event is None:
+        return 0, 0
+    return (-1, event) if event & 1 else (1, -event)

@@ -39,10 +39,10 @@ def enclosed_way(way, needed):
 
 def format_machine(machine):
     """The text of a machine."""
-    lines = [f"machine {len(machine.rows)} {machine.start}\n"]
+    lines = [f"machine {len(machine.rows)} {machine.start}"]
     for priority, row in zip(machine.priorities, machine.rows):
-        lines.append(f"row {priority} {format_statement(row)}\n")
-    return "".join(lines)
+        lines.append(f"row {priority} {format_statement(row)}")
+    return "\n".join(lines) + "\n"
 
 
 def parse_machine(text):

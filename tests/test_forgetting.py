@@ -2,6 +2,7 @@
 
 import itertools
 import unittest
+from unittest import mock
 
 from fixworlds.closures import Closure
 from fixworlds.deciding import follows
@@ -138,6 +139,21 @@ class Forgetting(unittest.TestCase):
             statement = parse_statement(text)
             self.assertEqual(size(statement), 10)
             self.check(statement, World(1, 1, [[], []], [(0, 0, 1), (1, 0, 1), (1, 0, 0)]))
+
+    def test_large_arenas(self):
+        """Where only some places of an arena are looked at, the machine accepts the same."""
+        rng = generator(114)
+        done = 0
+        while done < 150:
+            statement = random_statement(rng, rng.randint(3, 9))
+            if guarded_under(statement, set()) and mentions(statement, 0):
+                worlds = [World(*random_world(rng, rng.randint(1, 4))) for _ in range(3)]
+                expected = [accepted(forgetting_machine(statement, 0), world) for world in worlds]
+                for most in (0, 1, 4):
+                    with mock.patch("fixworlds.forgetters.MOST_PLACES", most):
+                        machine = forgetting_machine(statement, 0)
+                    self.assertEqual([accepted(machine, world) for world in worlds], expected)
+                done += 1
 
     def test_too_large_machine(self):
         statement = parse_statement(
